@@ -1,0 +1,1 @@
+"""Burstlimits: how many requests may come in how short a time."""
