@@ -2,7 +2,14 @@
 
 import random
 
+from burstlimits.gates import Bounded, Gate, Prompt, PromptBounded
 from burstlimits.limits import Limits
+
+
+def gates(limits):
+    """A gate of each class with these limits, that refuse nothing where none waits."""
+    return [Gate(limits), Bounded(limits, 0), Bounded(limits, 60), Prompt(limits, 0), Prompt(limits, 100),
+            PromptBounded(limits, 0, 0), PromptBounded(limits, 100, 60)]
 
 
 def deep(depth):
@@ -20,7 +27,8 @@ def any_values():
         [], (), {}, [1], (1,), {1: 2}, (1, 2, 3), [1, 2], {"start": 0}, (None, None), ("kept",), ["kept"],
         (True, True), (1, True), (True, 1), ((1, 2),), [(1, 2)], ("1", "2"), (1, "2"), (1, None),
         Limits((1, 1)), Limits((1, 3), (4, 5)), (Limits((1, 1)),), [Limits((1, 1)), None], {"a": [(1, True)]},
-        deep(20), tuple([0] * 7000), [True] * 7000,
+        deep(20), tuple([0] * 7000), [True] * 7000, *gates(Limits((1, 3), (4, 5))), ("follows", Gate(Limits((1, 1)))),
+        "follows", "breaks", ("follows",), ("breaks", ()), ["follows", (0,)], ("follows", [0]), ("breaks", [9]),
     ]
 
 
@@ -85,6 +93,51 @@ def seeded(seed):
 def stretch(row, start, length):
     """The requests in a stretch, tick by tick; it may begin ahead of the row and end behind it."""
     return sum([row[tick] for tick in range(start, start + length) if 0 <= tick < len(row)])
+
+
+def least_sums(limits, longest):
+    """The least sums that cover the lengths from 0 to the longest, shorter ones first, limit by limit."""
+    sums = [0] + [None] * longest
+    for covered in range(longest + 1):
+        for length, most in limits.pairs:
+            # What is covered with this limit besides is at least as long as any length up to here.
+            for reached in range(covered + 1, min(covered + length, longest) + 1):
+                if sums[reached] is None or sums[covered] + most < sums[reached]:
+                    sums[reached] = sums[covered] + most
+    return sums
+
+
+def through_by_formula(limits, row, ticks):
+    """How many are through in each of so many ticks, by what stands in the brackets of [30]."""
+    sums = least_sums(limits, ticks)
+    come = [sum(row[:tick]) for tick in range(ticks + 1)]
+    together = [min([come[start] + sums[tick - start] for start in range(tick + 1)]) for tick in range(ticks + 1)]
+    return tuple([together[tick + 1] - together[tick] for tick in range(ticks)])
+
+
+def passed_by_formula(limits, row):
+    """The row that [30] describes: as long as the row, or until all are through."""
+    ticks = len(row)
+    while sum(through_by_formula(limits, row, ticks)) < sum(row):
+        ticks += max(1, ticks // 2)
+    through = list(through_by_formula(limits, row, ticks))
+    while len(through) > len(row) and through[-1] == 0:
+        through.pop()
+    return tuple(through)
+
+
+def waits_one_by_one(limits, row):
+    """How long each request waits: each in the first tick in which it and those ahead of it keep the limits."""
+    ticks = []
+    found = []
+    for tick, amount in enumerate(row):
+        for _ in range(amount):
+            leaves = max([tick, *ticks[-1:]])
+            while not keeps(limits, tuple([[*ticks, leaves].count(one) for one in range(leaves + 1)])):
+                leaves += 1
+            ticks.append(leaves)
+            found.append(leaves - tick)
+    return tuple(found)
 
 
 def breaks(limits, row):

@@ -107,6 +107,20 @@ class Language(unittest.TestCase):
                     for arg in node.args:
                         self.assertNotIsInstance(arg, ast.GeneratorExp, (path, node.lineno))
 
+    def test_nothing_else_has_the_name_of_a_generator(self):
+        functions = [node for _, _, tree in files() for node in ast.walk(tree) if isinstance(node, ast.FunctionDef)]
+        generators = [node.name for node in functions
+                      if any([isinstance(part, (ast.Yield, ast.YieldFrom)) for part in ast.walk(node)])]
+        names = [node.name for node in functions]
+        self.assertEqual([name for name in generators if names.count(name) != 1], [])
+
+    def test_the_end_of_a_with_statement_only_assigns_and_tests(self):
+        for path, _, tree in files():
+            for node in ast.walk(tree):
+                if isinstance(node, ast.FunctionDef) and node.name == "__exit__":
+                    for part in ast.walk(node):
+                        self.assertNotIsInstance(part, (ast.Call, ast.Subscript, ast.For, ast.While, ast.Try), path)
+
     def test_functions(self):
         for path, _, tree in files():
             for node in ast.walk(tree):
